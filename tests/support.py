@@ -1,0 +1,126 @@
+"""What several tests use: plain listing, values of all kinds, and a way to tell an error."""
+
+import itertools
+import random
+import re
+import time
+import unittest
+
+from skipcounts.errors import InvalidText
+from skipcounts.sums import Sum
+
+BIG = 10 ** 30 - 1
+ALL_LETTERS = "abcdefghijklmnopqrstuvwxyz"
+
+
+def all_words(letters, depth):
+    """All words of at most depth letters, in the order of texts."""
+    return ["".join(signs) for size in range(depth + 1) for signs in itertools.product(letters, repeat=size)]
+
+
+def all_readings(word, text):
+    """All readings, in order, by going through all choices of places."""
+    choices = itertools.combinations(range(len(text)), len(word))
+    return [places for places in choices if "".join(text[place] for place in places) == word]
+
+
+def plain_count(word, text):
+    return len(all_readings(word, text))
+
+
+def plain_worth(total, text):
+    return sum(number * plain_count(word, text) for word, number in total.terms())
+
+
+def text_key(text):
+    return (len(text), text)
+
+
+def some_text(chance, letters, size):
+    return "".join(chance.choice(letters) for _ in range(size))
+
+
+def some_sum(chance, letters, many, depth, most=5):
+    """A sum of so many terms, some of which may fall together."""
+    terms = []
+    for _ in range(many):
+        terms.append((some_text(chance, letters, chance.randint(0, depth)), chance.randint(-most, most)))
+    return Sum(terms)
+
+
+def chance(seed):
+    return random.Random(seed)
+
+
+def any_values():
+    """Values of all kinds that may be handed in anywhere."""
+    deep = []
+    for _ in range(28):
+        deep = [deep]
+    return [
+        None, True, False, 0, 1, 2, -1, 7, 13, 41, 10 ** 29, -10 ** 29,
+        "", "a", "b", "ab", "ba", "aa", "abc", "abcde", "A", "aB", "a b", "a1", "1", "+1[a]", "a\n",
+        [], ["a"], ["a", "b"], [0], [1], [1, 0], [1, 2, 3], [True], [1, True, 1], [None], [[]], [("a", 1)],
+        [("a", True)], [("a",)], [("a", 1, 1)], [("A", 1)], [["a", 1]], [(1, "a")], [("a", "b")], [("b", "a")],
+        [("a", "")], [("ab", "a")], [("b", ""), ("a", "")], [("a", ""), ("a", "")], [("a", Sum([]))],
+        [("a", 1, 2)], [("a", 2, 4)], [("a", 0, 1)], [("a", 1, 0)], [("a", 1, -1)], deep,
+        (), ("a",), ("a", 1), ("a", "b"), (0,), (0, 1), (1, 0), (0, 0), (0, True), (-1, 0), (0, 9), ("0", "1"),
+        {}, {"a": 1}, {"": 0}, {"a": []}, {0: 1},
+        Sum([]), Sum([("a", 1)]), Sum([("", 2), ("ab", -1)]), InvalidText("a"),
+    ]
+
+
+def is_plain_whole(value):
+    return type(value) is int
+
+
+def is_plain_text(value):
+    return type(value) is str and re.fullmatch("[a-z]*", value) is not None and not value.endswith("\n")
+
+
+def is_plain_letters(value):
+    return is_plain_text(value) and 1 <= len(value) <= 4 and "".join(sorted(set(value))) == value
+
+
+def is_plain_over(letters):
+    return lambda value: is_plain_text(value) and set(value) <= set(letters)
+
+
+def is_plain_from_to(low, high):
+    return lambda value: is_plain_whole(value) and low <= value <= high
+
+
+def is_plain_sum(value):
+    return type(value) is Sum
+
+
+class TestCase(unittest.TestCase):
+    """A test that can tell errors and times."""
+
+    def refuses(self, error, value, call, *arguments, **named):
+        """The call raises just this error, with this very value in its field."""
+        try:
+            found = call(*arguments, **named)
+        except ValueError as raised:
+            self.assertIs(type(raised), error, (call, arguments, named))
+            self.assertIs(raised.value, value)
+            return
+        self.fail((call, arguments, named, found))
+
+    def refuses_number(self, error, number, call, *arguments):
+        """The call raises just this error, with a number equal to this one in its field."""
+        try:
+            found = call(*arguments)
+        except ValueError as raised:
+            self.assertIs(type(raised), error, (call, arguments))
+            self.assertIs(type(raised.value), int)
+            self.assertEqual(raised.value, number)
+            return
+        self.fail((call, arguments, found))
+
+    def in_seconds(self, call, *arguments, seconds=10):
+        """The call ends within seconds; its result is returned."""
+        start = time.monotonic()
+        found = call(*arguments)
+        self.assertLess(time.monotonic() - start, seconds, call)
+        return found
