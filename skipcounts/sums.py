@@ -5,7 +5,7 @@ from math import gcd
 from skipcounts.errors import InvalidList, InvalidNumber, InvalidSum, TooMany
 from skipcounts.levels import levels_of_numbers, levels_of_row, number_levels, numbers_of_levels
 from skipcounts.levels import row_of_levels, worth_levels
-from skipcounts.texts import in_order, is_text, need_letters, need_text, stands_over
+from skipcounts.texts import in_order, is_text, letters_in, need_letters, need_text, stands_over
 from skipcounts.trees import beginning_counts
 from skipcounts.wholes import how_many_words, is_from_to, is_whole, is_whole_list
 
@@ -132,7 +132,7 @@ def sum_of_numbers(numbers):
 
 def letters_of(total):
     """Return the letters of the words of a sum, in order, as a string; there may be up to 26 of them."""
-    return "".join(sorted(set([sign for word, _ in total.terms() for sign in word])))
+    return letters_in([word for word, _ in total.terms()])
 
 
 def _are_terms(value):

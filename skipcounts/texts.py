@@ -118,6 +118,11 @@ def in_order(words):
     return sorted(sorted(words), key=len)
 
 
+def letters_in(words):
+    """Return the letters of some words, in order, as a string; there may be up to 26 of them."""
+    return "".join(sorted(set([sign for word in words for sign in word])))
+
+
 def need_letters(letters):
     """Refuse what is no alphabet."""
     if not is_alphabet(letters):

@@ -8,6 +8,7 @@ import unittest
 
 from skipcounts.errors import InvalidText
 from skipcounts.sums import Sum
+from skipcounts.tables import Table
 
 BIG = 10 ** 30 - 1
 ALL_LETTERS = "abcdefghijklmnopqrstuvwxyz"
@@ -30,6 +31,26 @@ def plain_count(word, text):
 
 def plain_worth(total, text):
     return sum(number * plain_count(word, text) for word, number in total.terms())
+
+
+def covering_pairs(one, other, word):
+    """How many pairs of readings of two words in a third one have all of its places between them."""
+    every = set(range(len(word)))
+    return sum(set(first) | set(second) == every
+               for first in all_readings(one, word) for second in all_readings(other, word))
+
+
+def plain_primes(letters, size):
+    """The prime words, by the definition."""
+    return [word for word in all_words(letters, size)
+            if word and all(word < word[cut:] for cut in range(1, len(word)))]
+
+
+def plain_joined(letters, depth, one, other):
+    """The numbers of two lists of numbers for all words, joined by all cuts of each word."""
+    words = all_words(letters, depth)
+    first, second = dict(zip(words, one)), dict(zip(words, other))
+    return [sum(first[word[:cut]] * second[word[cut:]] for cut in range(len(word) + 1)) for word in words]
 
 
 def text_key(text):
@@ -67,6 +88,7 @@ def any_values():
         (), ("a",), ("a", 1), ("a", "b"), (0,), (0, 1), (1, 0), (0, 0), (0, True), (-1, 0), (0, 9), ("0", "1"),
         {}, {"a": 1}, {"": 0}, {"a": []}, {0: 1},
         Sum([]), Sum([("a", 1)]), Sum([("", 2), ("ab", -1)]), InvalidText("a"),
+        Table("a", 0, [1]), Table("ab", 1, [1, 2, -3]), [Table("a", 0, [1])], [Sum([])], ("a", Sum([])),
     ]
 
 

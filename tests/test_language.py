@@ -20,7 +20,7 @@ BUILTINS = set(
 METHODS = set(
     "append clear copy count endswith extend find get index insert isalnum isalpha isdigit islower isspace isupper items "
     "join keys ljust lower lstrip partition pop remove replace reverse rfind rjust rpartition rsplit rstrip setdefault "
-    "split splitlines startswith strip update upper values zfill bit_length add discard isascii".split())
+    "split splitlines startswith strip swapcase update upper values zfill bit_length add discard isascii".split())
 STATEMENTS = (
     ast.FunctionDef, ast.ClassDef, ast.Return, ast.Delete, ast.Assign, ast.AugAssign, ast.For, ast.While, ast.If,
     ast.Raise, ast.Assert, ast.Expr, ast.Pass, ast.Break, ast.Continue, ast.ImportFrom)
@@ -229,5 +229,11 @@ LISTED = {
     "sums": "Sum plus times within parting parting_by divisor worths from_worths",
     "differences": "front_part back_part summed moved unmoved",
     "exchanges": "changes inner turn_parting kept_sums",
+    "products": "product chosen quotient",
+    "primes": "prime_parts prime_words prime_form from_prime_form told_count",
+    "tables": "Table table_of joined undone power first_difference root greatest_root table_round",
+    "legal": "is_legal from_primes at_primes commutator commutator_form",
+    "alike": "depth_alike twist twist_gap without_capitals",
+    "rules": "done rules_after led rules_part",
 }
-METHODS_LISTED = [("sums", "Sum", "terms degree worth")]
+METHODS_LISTED = [("sums", "Sum", "terms degree worth"), ("tables", "Table", "letters depth numbers number")]
