@@ -209,16 +209,14 @@ def _root(table, many):
 def _root_bound(table):
     """Return a number that each number with a root of the table divides, 0 for the table of the empty text.
 
-    It is the greatest divisor of N - N N / 2 + N N N / 3 .., taken so often that all numbers are whole.
+    Primes above the depth divide it just as often as the greatest number with a root.
     """
-    whole = _lcm_up_to(table.depth())
-    shares = [0]
-    for size in range(1, table.depth() + 1):
-        shares.append(whole // size if size % 2 == 1 else -(whole // size))
+    # A power of 1 + N takes the powers of N as often as binomials say; each of them, times a number that all numbers
+    # up to the depth divide, is divisible by the exponent.
     found = 0
-    for number in row_of_levels(made_of_powers(rest_powers(levels_of_table(table)), shares)):
+    for number in table.numbers()[1:]:
         found = gcd(found, number)
-    return found
+    return found * _lcm_up_to(table.depth())
 
 
 def _lcm_up_to(most):

@@ -84,7 +84,9 @@ class Product(support.TestCase):
         self.assertEqual(product(Sum([("a" * 6, 1)]), Sum([("b" * 6, 1)])).degree(), 12)
         self.refuses_number(TooLong, 13, product, Sum([("a" * 7, 1)]), Sum([("b" * 6, 1)]))
         self.refuses_number(TooLong, 25, product, Sum([("a" * 12, 1)]), Sum([("b" * 13, 1)]))
-        self.assertEqual(product(Sum([]), Sum([("b" * 13, 1)])), Sum([]))
+        # No sum without terms is too long, whatever it is multiplied by.
+        self.assertEqual(product(Sum([]), Sum([("b" * 20, 1)])), Sum([]))
+        self.assertEqual(product(Sum([("b" * 20, 1)]), Sum([])), Sum([]))
 
     def test_within_seconds(self):
         chance = support.chance(42)

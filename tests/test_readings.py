@@ -71,6 +71,12 @@ class Edges(support.TestCase):
                       (0, None), [0, 1], {0: 1}, "ab", None, 1, (0, 10 ** 29), ((0, 1),), (0, (1,))]:
             self.assertIs(is_reading("ab", "abab", value), False, value)
             self.refuses(InvalidList, value, reading_number, "ab", "abab", value)
+        # Places are counted from 0, ascend and stand in the text, even where the letters would fit.
+        self.assertIs(is_reading("b", "ab", (-1,)), False)
+        self.assertIs(is_reading("bb", "abb", (-1, 2)), False)
+        for value in [(0, 0), (1, 0), (1, 1), (0, 2)]:
+            self.assertIs(is_reading("aa", "aa", value), False)
+            self.refuses(InvalidList, value, reading_number, "aa", "aa", value)
         for value in support.any_values():
             self.assertIs(is_reading("ab", "ab", value), type(value) is tuple and value == (0, 1)
                           and all(type(place) is int for place in value), value)
