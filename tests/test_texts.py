@@ -79,13 +79,11 @@ class Bounds(support.TestCase):
 
     def test_text_numbered_with_very_many_figures(self):
         for many, letters in enumerate(["a", "ab", "abc", "abcd"], 1):
-            for size in [301, 302, 500, 3001, 20000]:
-                first = sum(many ** shorter for shorter in range(size)) if size < 4000 else None
-                if first is None:
-                    first = size if many == 1 else (many ** size - 1) // (many - 1)
+            for size in [302, 500, 511, 512, 513, 1024, 3001, 20000]:
+                # The number of the first text with so many letters.
+                first = size if many == 1 else (many ** size - 1) // (many - 1)
                 self.refuses_number(TooLong, size, text_numbered, letters, first)
-                self.refuses_number(TooLong, size - 1 if size > 301 else 301, text_numbered, letters,
-                                    first - 1 if size > 301 else first)
+                self.refuses_number(TooLong, size - 1, text_numbered, letters, first - 1)
         self.refuses_number(TooLong, 10 ** 5000, text_numbered, "a", 10 ** 5000)
 
     def test_texts_of(self):
