@@ -7,6 +7,28 @@ each first number is above 0, and each row ahead has at this place a number of a
 from skipcounts.wholes import bezout
 
 
+class Lattice:
+    """All rows that the rows put in make, each taken a whole number of times."""
+
+    def __init__(self):
+        self._stairs = {}
+
+    def puts(self, row):
+        """Put in a row; return what it has less than a row made before, without places if it was made itself."""
+        left = row
+        for place in sorted(self._stairs):
+            if place in left:
+                stair = self._stairs[place]
+                left = _combined(1, left, -(left[place] // stair[place]), stair)
+        if left:
+            _put_in(self._stairs, left)
+        return left
+
+    def stairs(self):
+        """Return the stairs that make just these rows."""
+        return stairs_of(list(self._stairs.values()))
+
+
 def stairs_of(rows):
     """Return the stairs that make just what the rows make."""
     stairs = {}
@@ -27,6 +49,22 @@ def stairs_that_vanish(equations, width):
     for equation in equations:
         stairs = _meeting(stairs, equation)
     return stairs
+
+
+def taken_in(stairs, row):
+    """Return how often each stair is taken in a row that they make."""
+    found = []
+    left = row
+    for stair in stairs:
+        place = _first(stair)
+        found.append(left.get(place, 0) // stair[place])
+        left = _combined(1, left, -found[-1], stair)
+    return found
+
+
+def sparse(row):
+    """Return the dict of the places of a list with their numbers, where these are not 0."""
+    return {place: number for place, number in enumerate(row) if number != 0}
 
 
 def _meeting(stairs, equation):

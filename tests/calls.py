@@ -3,8 +3,8 @@
 An argument is (name, a right value, error, whether a value is right); the error is None where any value is let.
 """
 
-from skipcounts import alike, differences, errors, exchanges, legal, primes, products, readings, rules, sums, tables
-from skipcounts import texts
+from skipcounts import again, alike, balances, binomials, differences, errors, exchanges, finites, leastmachines, legal
+from skipcounts import partings, primes, products, readings, registers, rules, sums, tables, texts
 from tests import support
 
 Sum = sums.Sum
@@ -196,4 +196,103 @@ STAGE_TWO = [
     (rules.rules_part, [ruled("one"), ruled("other", SWAP), whole("depth", 2, 0, 4)]),
 ]
 
-CALLS = STAGE_ONE + STAGE_TWO
+Machine = registers.Machine
+Finite = finites.Finite
+HELD = Machine("ab", [1, 2], [[[1, 1], [0, 1]], [[2, 0], [-1, 1]]], [1, -3])
+COUNTED = registers.counting_machine("ab", "ab")
+RUN = Finite("ab", [[0, 1], [None, 1]], [0, 1])
+
+
+def machine(name="machine", value=HELD):
+    return (name, value, errors.InvalidMachine, lambda given: type(given) is Machine)
+
+
+def finite_or_none(value=RUN):
+    return ("finite", value, errors.InvalidFinite, lambda given: given is None or type(given) is Finite)
+
+
+def finite(value=RUN):
+    return ("finite", value, errors.InvalidFinite, lambda given: type(given) is Finite)
+
+
+def is_list_of_size(low, high):
+    """Such lists are refused by another error, with an item in its field, if at all."""
+    return lambda value: type(value) is list and low <= len(value) <= high
+
+
+def machines_listed():
+    return listed("machines", [HELD, COUNTED, HELD], is_list_of_size(1, 8))
+
+
+def choices(value):
+    return listed("choices", value, is_list_of_size(1, 3))
+
+
+def is_row(value):
+    return type(value) is list and all(support.is_plain_whole(item) for item in value) and value[-1:] != [0]
+
+
+def binomials_row(name="row", value=None):
+    return listed(name, [2, -3, 2] if value is None else value, is_row)
+
+
+def are_starts(value):
+    return type(value) is list and all(support.is_plain_whole(item) for item in value)
+
+
+def are_ends(value):
+    return value in ([], [0], [1], [0, 1])
+
+
+STAGE_THREE = [
+    (binomials.row_value, [binomials_row(), whole("number", 10, 0)]),
+    (binomials.binomial_row, [listed("values", [0, 1, 3, 6], are_starts)]),
+    (binomials.row_product, [binomials_row("one"), binomials_row("other", [0, 1])]),
+    (binomials.signs, [binomials_row()]),
+    (again.worth_again, [total(), ruled("rules"), text(), whole("many", 20, 0),
+                         ("by", 7, errors.InvalidNumber, lambda given: given is None or (
+                             support.is_plain_whole(given) and given >= 1))]),
+    (again.again_row, [total(), ruled("rules")]),
+    (again.parting_again, [total("one"), total("other", OTHER), ruled("rules"), text()]),
+    (again.parting_row, [total("one"), total("other", OTHER), choices([GROWN, SWAP]), text()]),
+    (again.zero_paper, [total("total", Sum([("a", 1), ("b", -1)])), choices([SWAP]), text()]),
+    (again.is_zero_paper, [total("total", Sum([("a", 1), ("b", -1)])), choices([SWAP]), text(),
+                           anything("value", ([[]], [([0], [(1, 1)])]))]),
+    (again.rules_growth, [ruled("rules")]),
+    (again.again_since, [total(), ruled("rules", SWAP), text(), whole("rest", 1, 0, 1)]),
+    (Machine, [letters(), listed("start", [1, 2], are_starts),
+               listed("tables", [[[1, 1], [0, 1]], [[2, 0], [-1, 1]]], lambda value: False),
+               listed("out", [1, -3], are_wholes(2))]),
+    (HELD.letters, []),
+    (HELD.start, []),
+    (HELD.tables, []),
+    (HELD.out, []),
+    (registers.machine_worth, [machine(), text_over()]),
+    (registers.counting_machine, [letters(), ("word", "ab", errors.InvalidWord, support.is_plain_over("ab"))]),
+    (registers.machine_plus, [machine("one"), machine("other", COUNTED)]),
+    (registers.machine_product, [machine("one"), machine("other", COUNTED)]),
+    (registers.machine_led, [machine(), letters("ab"), ruled("rules")]),
+    (Finite, [letters(), listed("moves", [[0, 1], [None, 1]], lambda value: value == [[0, 0]]),
+              listed("ends", [0, 1], are_ends)]),
+    (RUN.letters, []),
+    (RUN.moves, []),
+    (RUN.ends, []),
+    (finites.lets, [finite(), text_over()]),
+    (finites.machine_within, [machine(), finite()]),
+    (partings.parting_text, [machine("one"), machine("other", COUNTED), finite_or_none()]),
+    (partings.is_agreeing_paper, [machine("one"), machine("other"), finite_or_none(), anything("value", ["", "a"])]),
+    (partings.agreeing_paper, [machine("one"), machine("other"), finite_or_none()]),
+    (partings.parting_rest, [machine("one"), machine("other", COUNTED), whole("by", 3, 2), finite_or_none()]),
+    (partings.common_divisor, [machine("one"), machine("other", COUNTED), finite_or_none()]),
+    (balances.deciding_texts, [machines_listed(), finite_or_none()]),
+    (balances.balances, [machines_listed(), finite_or_none()]),
+    (balances.is_balance, [machines_listed(), anything("numbers", [1, 0, -1]), finite_or_none()]),
+    (leastmachines.rank, [machine()]),
+    (leastmachines.tests, [machine()]),
+    (leastmachines.row_at, [machine(), text_over()]),
+    (leastmachines.basis, [machine()]),
+    (leastmachines.least_machine, [machine()]),
+    (leastmachines.order_matters, [machine()]),
+]
+
+CALLS = STAGE_ONE + STAGE_TWO + STAGE_THREE

@@ -5,8 +5,11 @@ import random
 import re
 import time
 import unittest
+from fractions import Fraction
 
 from skipcounts.errors import InvalidText
+from skipcounts.finites import Finite
+from skipcounts.registers import Machine
 from skipcounts.sums import Sum
 from skipcounts.tables import Table
 
@@ -57,6 +60,84 @@ def text_key(text):
     return (len(text), text)
 
 
+def plain_rank(rows):
+    """How many of some rows are not made of the others by fractions."""
+    left = [[Fraction(number) for number in row] for row in rows]
+    found = 0
+    while left:
+        row = left.pop()
+        place = next((at for at, number in enumerate(row) if number), None)
+        if place is not None:
+            found += 1
+            left = [[number - own[place] / row[place] * less for number, less in zip(own, row)] for own in left]
+    return found
+
+
+def is_made(rows, row):
+    """Whether a row is made of others by fractions."""
+    return plain_rank(rows + [row]) == plain_rank(rows)
+
+
+def plain_stairs(rows):
+    """The stair list of all sums of rows of whole numbers, by taking rows away from each other again and again."""
+    left = [list(row) for row in rows if any(row)]
+    found = []
+    for place in range(len(rows[0]) if rows else 0):
+        while sum(row[place] != 0 for row in left) > 1:
+            low = min((row for row in left if row[place]), key=lambda row: abs(row[place]))
+            for row in left:
+                if row is not low:
+                    times = row[place] // low[place]
+                    for at in range(len(row)):
+                        row[at] -= times * low[at]
+        for row in [row for row in left if row[place]]:
+            left.remove(row)
+            row = row if row[place] > 0 else [-number for number in row]
+            for ahead in found:
+                times = ahead[place] // row[place]
+                for at in range(len(row)):
+                    ahead[at] -= times * row[at]
+            found.append(row)
+    return found
+
+
+def plain_held(machine, text):
+    """What the registers hold at the end of a text, register by register, letter by letter."""
+    registers = machine.start()
+    for sign in text:
+        table = machine.tables()[machine.letters().index(sign)]
+        registers = [sum(table[i][j] * registers[i] for i in range(len(registers))) for j in range(len(registers))]
+    return registers
+
+
+def plain_machine_worth(machine, text):
+    return sum(number * own for number, own in zip(plain_held(machine, text), machine.out()))
+
+
+def plain_state(finite, text):
+    """The state to which a text leads, None if to none."""
+    state = 0
+    for sign in text:
+        if state is not None:
+            state = finite.moves()[state][finite.letters().index(sign)]
+    return state
+
+
+def plain_lets(finite, text):
+    return finite is None or plain_state(finite, text) in finite.ends()
+
+
+def some_machine(chance, letters, size, most=2):
+    def row():
+        return [chance.randint(-most, most) for _ in range(size)]
+    return Machine(letters, row(), [[row() for _ in range(size)] for _ in letters], row())
+
+
+def some_finite(chance, letters, states, gaps=0.2):
+    moves = [[None if chance.random() < gaps else chance.randrange(states) for _ in letters] for _ in range(states)]
+    return Finite(letters, moves, [state for state in range(states) if chance.random() < 0.6])
+
+
 def some_text(chance, letters, size):
     return "".join(chance.choice(letters) for _ in range(size))
 
@@ -89,6 +170,9 @@ def any_values():
         {}, {"a": 1}, {"": 0}, {"a": []}, {0: 1},
         Sum([]), Sum([("a", 1)]), Sum([("", 2), ("ab", -1)]), InvalidText("a"),
         Table("a", 0, [1]), Table("ab", 1, [1, 2, -3]), [Table("a", 0, [1])], [Sum([])], ("a", Sum([])),
+        Machine("ab", [1], [[[1]], [[2]]], [3]), Machine("a", [], [[]], []), Finite("ab", [[0, None]], [0]),
+        Finite("a", [[0]], []), [Machine("a", [1], [[[1]]], [1])], [Finite("a", [[0]], [])], [[0, 1]], [[None]],
+        ([], []), ([[]], []), ([[]], [([0], [(1, 1)])]), ("", "a", ""), ([0], [1]), [(2, [[1], [0]], [0, 1])],
     ]
 
 

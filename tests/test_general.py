@@ -14,6 +14,10 @@ def plain(value):
         return ("sum", value.terms())
     if hasattr(value, "numbers"):
         return ("table", value.letters(), value.depth(), value.numbers())
+    if hasattr(value, "out"):
+        return ("machine", value.letters(), value.start(), value.tables(), value.out())
+    if hasattr(value, "moves"):
+        return ("finite", value.letters(), value.moves(), value.ends())
     if isinstance(value, (list, tuple)):
         return (type(value).__name__, [plain(item) for item in value])
     if isinstance(value, dict):
@@ -74,6 +78,8 @@ class Arguments(support.TestCase):
                     if second <= first:
                         continue
                     for one in [None, True]:
+                        if arguments[first][3](one):
+                            continue
                         given = [value for _, value, _, _ in arguments]
                         given[first] = one
                         given[second] = {"wrong": []}

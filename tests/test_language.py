@@ -235,5 +235,15 @@ LISTED = {
     "legal": "is_legal from_primes at_primes commutator commutator_form",
     "alike": "depth_alike twist twist_gap without_capitals",
     "rules": "done rules_after led rules_part",
+    "again": "worth_again again_row parting_again parting_row zero_paper is_zero_paper rules_growth again_since",
+    "registers": "Machine machine_worth counting_machine machine_plus machine_product machine_led",
+    "finites": "Finite lets machine_within",
+    "partings": "parting_text is_agreeing_paper agreeing_paper parting_rest common_divisor",
+    "balances": "deciding_texts balances is_balance",
+    "leastmachines": "rank tests row_at basis least_machine order_matters",
+    "binomials": "row_value binomial_row row_product signs",
 }
-METHODS_LISTED = [("sums", "Sum", "terms degree worth"), ("tables", "Table", "letters depth numbers number")]
+METHODS_LISTED = [
+    ("sums", "Sum", "terms degree worth"), ("tables", "Table", "letters depth numbers number"),
+    ("registers", "Machine", "letters start tables out"), ("finites", "Finite", "letters moves ends"),
+]
