@@ -24,6 +24,10 @@ class Lattice:
             _put_in(self._stairs, left)
         return left
 
+    def size(self):
+        """Return how many stairs make these rows."""
+        return len(self._stairs)
+
     def stairs(self):
         """Return the stairs that make just these rows."""
         return stairs_of(list(self._stairs.values()))

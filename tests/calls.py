@@ -3,8 +3,9 @@
 An argument is (name, a right value, error, whether a value is right); the error is None where any value is let.
 """
 
-from skipcounts import again, alike, balances, binomials, differences, errors, exchanges, finites, leastmachines, legal
-from skipcounts import partings, primes, products, readings, registers, rules, sums, tables, texts
+from skipcounts import again, alike, balances, binomials, differences, errors, exchanges, finites, leastmachines
+from skipcounts import learners, legal, machinepowers, machinesums, partings, primes, products, readings, registers
+from skipcounts import rests, restsets, risings, rules, sums, tables, texts
 from tests import support
 
 Sum = sums.Sum
@@ -295,4 +296,49 @@ STAGE_THREE = [
     (leastmachines.order_matters, [machine()]),
 ]
 
-CALLS = STAGE_ONE + STAGE_TWO + STAGE_THREE
+def are_sums(value):
+    return type(value) is list and 1 <= len(value) <= 6 and all(support.is_plain_sum(item) for item in value)
+
+
+def sums_listed():
+    return listed("sums", [ONE, OTHER], are_sums)
+
+
+def are_rests(value):
+    return value in ([], [0], [1], [0, 1], [1, 2, 3])
+
+
+def prime():
+    return ("prime", 3, errors.InvalidNumber, lambda given: given in (2, 3, 5, 7, 13, 41))
+
+
+EVEN = Finite("ab", [[1, 0], [0, 1]], [0])
+
+STAGE_FOUR = [
+    (machinesums.machine_number, [machine(), ("word", "ab", errors.InvalidWord, support.is_plain_over("ab"))]),
+    (machinesums.sum_of, [machine("machine", COUNTED)]),
+    (machinesums.no_sum_word, [machine()]),
+    (machinesums.machine_of, [letters(), total()]),
+    (machinepowers.parting_power, [machine("one"), machine("other", COUNTED), text_over("head", "a"),
+                                   text_over("text", "ab"), text_over("behind", "b")]),
+    (learners.machine_from, [letters("a"), whole("most", 1, 1, 6), listed("values", [1, 2], are_wholes(2))]),
+    (risings.worths_on, [finite(), total("total", Sum([("ba", 1)]))]),
+    (risings.rising, [finite(), total()]),
+    (risings.is_rising, [finite(), total(), anything("value", ("", "a", "b"))]),
+    (rests.by_rest, [total(), whole("number", 3, 2, 10000)]),
+    (rests.rest_states, [letters(), sums_listed(), whole("number", 3, 2, 10000)]),
+    (rests.rests_taken, [letters(), sums_listed(), whole("number", 3, 2, 10000)]),
+    (rests.how_many_with, [letters(), sums_listed(), whole("number", 3, 2, 10000),
+                           listed("rests", [1, 2], lambda value: value == [1, 0]), whole("many", 3, 0, 300)]),
+    (rests.rest_set, [letters(), total(), whole("number", 3, 2, 10000), listed("rests", [1, 2], are_rests)]),
+    (rests.first_with, [finite(), total(), whole("number", 3, 2, 10000), listed("rests", [1, 2], are_rests)]),
+    (restsets.expansion, [finite(), whole("depth", 2, 0, 6)]),
+    (restsets.told_by, [finite(EVEN), prime()]),
+    (restsets.marks, [finite(), text_over("head", "a"), text_over("part", "ab"), text_over("end", "b")]),
+    (restsets.bar, [finite(EVEN), prime()]),
+    (restsets.is_bar, [finite(EVEN), prime(), anything("value", ("", "a", ""))]),
+    (restsets.rest_parts, [finite(EVEN)]),
+    (restsets.is_rest_parts, [finite(EVEN), anything("value", [(2, [[1, 0], [0, 1]], [0, 1])])]),
+]
+
+CALLS = STAGE_ONE + STAGE_TWO + STAGE_THREE + STAGE_FOUR

@@ -242,6 +242,12 @@ LISTED = {
     "balances": "deciding_texts balances is_balance",
     "leastmachines": "rank tests row_at basis least_machine order_matters",
     "binomials": "row_value binomial_row row_product signs",
+    "machinesums": "machine_number sum_of no_sum_word machine_of",
+    "machinepowers": "parting_power",
+    "learners": "machine_from",
+    "risings": "worths_on rising is_rising",
+    "rests": "by_rest rest_states rests_taken how_many_with rest_set first_with",
+    "restsets": "expansion told_by marks bar is_bar rest_parts is_rest_parts",
 }
 METHODS_LISTED = [
     ("sums", "Sum", "terms degree worth"), ("tables", "Table", "letters depth numbers number"),
