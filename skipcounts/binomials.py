@@ -23,8 +23,6 @@ def row_product(one, other):
     """Return the row whose value at every count is the product of the values of two rows."""
     need_row(one)
     need_row(other)
-    if not one or not other:
-        return []
     counts = range(len(one) + len(other) - 1)
     return row_of_values([value_of_row(one, count) * value_of_row(other, count) for count in counts])
 

@@ -55,7 +55,7 @@ def _reached_part(moves, told):
                 numbers[move] = len(states)
                 states.append(move)
         at = at + 1
-    return [[numbers[move] for move in moves[state]] for state in states], [told[state] for state in states]
+    return [[numbers[after] for after in moves[state]] for state in states], [told[state] for state in states]
 
 
 def _numbered(items):

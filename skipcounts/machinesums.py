@@ -58,11 +58,10 @@ def machine_of(letters, total):
 def _no_sum_word(least):
     """Return what no_sum_word returns, for a least machine.
 
-    A word need not be gone on with if others ahead of it, long enough, or as long, make its row.
+    A word need not be gone on with if words ahead of it, with as many letters, make its row.
     """
     many = len(least.start())
     rises = _rises(least)
-    span = Span(many)
     level = [("", least.start())] if many > 0 else []
     size = 0
     while level:
@@ -71,8 +70,7 @@ def _no_sum_word(least):
                 if dot(row, least.out()) != 0:
                     return word
         size = size + 1
-        if size <= many:
-            span = Span(many)
+        span = Span(many)
         longer = []
         for word, row in level:
             for letter in least.letters():

@@ -31,7 +31,7 @@ def _part(moves, prime):
     States that only come apart in turns of which the prime is no divisor have one spot.
     """
     many = len(moves)
-    other_moves = [_other_turns([row[place] for row in moves], prime) for place in range(len(moves[0]))]
+    other_moves = [_other_turns([own_row[place] for own_row in moves], prime) for place in range(len(moves[0]))]
     spots = [None] * many
     firsts = []
     for state in range(many):

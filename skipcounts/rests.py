@@ -169,7 +169,7 @@ def _states(letters, sums, number):
             steps[end[0]].append((places[(at, end[1:])], place))
     lists, moves, texts = _spread(letters, start, steps, number, MOST_STATES)
     firsts = [places[(at, "")] for at in range(len(sums))]
-    return moves, [[own[place] for place in firsts] for own in lists], texts
+    return moves, [[row[first] for first in firsts] for row in lists], texts
 
 
 def _need_few_lists(letters, terms, number):

@@ -108,17 +108,16 @@ def _rising_round(finite, tight, circle, heads, ends):
     """Return a rising whose middle text leads round about within a circle of states, None if there is none.
 
     A circle is a dict of its states with a text from its first state, the root, to each, and one back.
-    There is none exactly if all ways from the root to a state are worth the same, and the way from a state to the
-    root and back changes nothing.
+    There is none exactly if all ways from the root to a state within the circle are worth the same. For if they are,
+    the worths with a text again and again are the same once the root was met, and as values of a row of binomials,
+    which they are, they are the same ahead of it, too.
     """
     tables = tables_of(tight)
     root = min(list(circle))
-    at_states = {state: [_behind(row, tables, way) for _, row in heads[root]] for state, (way, _) in circle.items()}
-    for state, (way, back) in circle.items():
-        around = [_behind(row, tables, back + way) for _, row in heads[state]]
-        unlike = _unlike([row for _, row in heads[state]], around, ends[state])
-        if unlike is not None:
-            return heads[state][unlike[0]][0], back + way, ends[state][unlike[1]][0]
+    at_states = {}
+    for state, (way, _) in circle.items():
+        at_states[state] = [_behind(row, tables, way) for _, row in heads[root]]
+    for state, (way, _) in circle.items():
         for letter, move in zip(finite.letters(), finite.moves()[state]):
             if move in circle:
                 unlike = _unlike([taken(row, tables[letter]) for row in at_states[state]], at_states[move], ends[move])

@@ -5,7 +5,7 @@ taken a whole number of times, all lists of so many whole numbers.
 """
 
 from skipcounts.lattices import Lattice, sparse, stairs_of, taken_in
-from skipcounts.linear import given_by, taken
+from skipcounts.linear import given_by, taken, unit_table
 from skipcounts.registers import Machine
 from skipcounts.spans import Span
 
@@ -53,7 +53,7 @@ def least_of_tight(machine):
     many = len(columns)
     # Behind each row of worths stands how often the registers are taken in it, so that the stairs tell this, too.
     worths = [[column[at] for column in columns] for at in range(len(machine.start()))]
-    rows = [sparse(row + [1 if at == own else 0 for own in range(len(worths))]) for at, row in enumerate(worths)]
+    rows = [sparse(row + unit) for row, unit in zip(worths, unit_table(len(worths)))]
     stairs = [stair for stair in stairs_of(rows) if min(list(stair)) < many]
     basis = [[stair.get(place, 0) for place in range(many)] for stair in stairs]
     shares = [[stair.get(many + at, 0) for at in range(len(worths))] for stair in stairs]

@@ -309,6 +309,32 @@ class Rows(support.TestCase):
         self.assertFalse(is_zero_paper(ODDS, [[]], "ab", (rows, [([0, 0], [(-1, 2), (1, 2)])])))
         self.assertFalse(is_zero_paper(ODDS, [SWAP], "a", ([[]], [([0], [(1, 1)])])))
 
+    def test_rows_in_order_and_with_all_beginnings(self):
+        # All of these have the right fractions, but for what is wrong with their rows.
+        def paper(rows, choices):
+            needed = [row + [at] for row in rows for at in range(len(choices)) if row + [at] not in rows]
+            first = [(1, 1)] + [(0, 1)] * (len(rows) - 1)
+            return rows, [(row, list(first)) for row in needed]
+        both = [[], []]
+        for rows, choices, right in [
+                ([[]], both, True), ([[], [0]], both, True), ([[], [0], [1]], both, True), ([[], [1], [0]], both, False),
+                ([[0], []], both, False), ([[], [0], [0]], both, False), ([[], []], both, False),
+                ([[], [0, 0]], both, False), ([[], [0], [0, 1]], both, True), ([[], [0], [1, 1]], both, False),
+                ([[], [0, 1], [0]], both, False), ([[], [1]], [[]], False), ([[], [0], [0, 0]], [[]], True),
+                ([[], [-1]], both, False), ([[], [2]], both, False), ([], both, False), ([[0]], both, False),
+                ([[], [0], [1], [0, 0], [1, 0], [0, 1]], both, False),
+                ([[], [0], [1], [0, 0], [0, 1], [1, 0]], both, True)]:
+            self.assertIs(is_zero_paper(ODDS, choices, "ab", paper(rows, choices)), right, rows)
+        # A row that stands twice is told once.
+        self.assertIs(is_zero_paper(ODDS, both[:1], "ab", ([[], [0], [0]], [([0, 0], [(1, 1), (0, 1), (0, 1)])])), False)
+
+    def test_fractions_of_all_kinds(self):
+        for fraction, right in [((1, 1), True), ((2, 2), False), ((True, 1), False), ((1, True), False), ((None, 1), False),
+                                (("1", 1), False), ((1, None), False), ((1,), False), ((1, 1, 1), False), ((-1, -1), False),
+                                ((0, 1), False), ((1, 0), False), ((1, 2), False), ([1, 1], False), (1, False), (None, False)]:
+            self.assertIs(is_zero_paper(ODDS, [SWAP], "ab", ([[]], [([0], [fraction])])), right, fraction)
+        self.assertIs(is_zero_paper(ODDS, [SWAP], "ab", ([[]], [([False], [(1, 1)])])), False)
+
     def test_wrong_choices(self):
         for wrong in [None, True, 1, "ab", (), (GROWN,), {}, [], [GROWN] * 4, [None] * 4]:
             self.refuses(InvalidList, wrong, parting_row, AB, AB, wrong, None)

@@ -125,6 +125,9 @@ class Sums(support.TestCase):
         self.assertEqual(machine_of("ab", Sum([])), NOTHING)
         self.assertEqual(machine_of("ab", Sum([("", 7)])), Machine("ab", [1], [[[1]], [[1]]], [7]))
         self.assertEqual(no_sum_word(Machine("ab", [1], [[[1]], [[0]]], [1])), "b")
+        # The numbers at "a", "aa", "aaa" .. are 1, 0, 1, 0 and so on.
+        self.assertEqual(no_sum_word(Machine("a", [1, 0], [[[1, 1], [1, 1]]], [0, 1])), "aaa")
+        self.assertEqual(no_sum_word(Machine("a", [1, 0], [[[1, 1], [1, 1]]], [1, 0])), "aa")
         self.assertEqual(no_sum_word(Machine("abcd", [1], [[[1]], [[1]], [[1]], [[-1]]], [1])), "d")
 
     def test_letters_that_are_not_in_the_alphabet(self):

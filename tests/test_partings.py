@@ -172,6 +172,39 @@ class Papers(support.TestCase):
         self.assertTrue(is_agreeing_paper(A, B, EMPTY, agreeing_paper(A, B, EMPTY)))
 
 
+class GreatNumbers(support.TestCase):
+    def test_multiples_of_a_great_prime(self):
+        # Rows that fall together by rests of a great prime number need not fall together themselves.
+        chance = support.chance(4403)
+        great = 2 ** 61 - 1
+        numbers = [0, 0, 1, 1, -1, great, -great, 2 * great, great * great, great + 1]
+        parted = 0
+        for letters, size in [("a", 6), ("ab", 4)]:
+            for _ in range(60):
+                def some():
+                    many = chance.randint(0, 2)
+                    rows = [[chance.choice(numbers) for _ in range(many)] for _ in range(2 + many * len(letters))]
+                    return Machine(letters, rows[0], [rows[2 + many * at:][:many] for at in range(len(letters))], rows[1])
+                one, other = some(), some()
+                apart = [text for text in support.all_words(letters, size) if difference(one, other, text) != 0]
+                found = parting_text(one, other)
+                self.assertEqual(found, apart[0] if apart else None)
+                parted += found is not None
+                self.assertEqual(deciding_texts([one, other]), self.plain_deciding([one, other], size))
+                for each in [one, least_machine(one)]:
+                    self.assertEqual(agreeing_paper(one, each), Papers.plain_paper(self, one, each, None, size))
+        self.assertGreater(parted, 40)
+
+    def plain_deciding(self, machines, size):
+        found, kept = [], []
+        for text in support.all_words(machines[0].letters(), size):
+            row = [support.plain_machine_worth(one, text) for one in machines]
+            if not support.is_made(kept, row):
+                kept.append(row)
+                found.append(text)
+        return found
+
+
 class Rests(support.TestCase):
     def test_against_all_texts(self):
         chance = support.chance(4501)
@@ -191,6 +224,31 @@ class Rests(support.TestCase):
                     else:
                         self.assertEqual(apart[0], found)
         self.assertGreater(min(seen.values()), 30)
+
+    def test_machines_that_agree_by_some_rests(self):
+        # What is held at first is a divisor of the number, and reaches only later the register that is worth something.
+        chance = support.chance(4502)
+        late = 0
+        for letters, size in [("a", 12), ("ab", 6)]:
+            for _ in range(150):
+                many, by = chance.randint(2, 4), chance.choice([4, 8, 9, 12])
+                tables = [[[chance.choice([0, 0, 0, 0, 1, 2, 3]) for _ in range(many)] for _ in range(many)]
+                          for _ in letters]
+                start = [chance.choice([low for low in range(1, by + 1) if by % low == 0])] + [0] * (many - 1)
+                one = Machine(letters, start, tables, [0] * (many - 1) + [chance.choice([1, 2, 3])])
+                other = Machine(letters, [], [[] for _ in letters], [])
+                finite = some_finite(chance, letters)
+                texts = texts_of(finite, letters, size)
+                apart = [text for text in texts if difference(one, other, text) % by != 0]
+                found = parting_rest(one, other, by, finite)
+                if found is None or len(found) > size:
+                    self.assertEqual(apart, [])
+                else:
+                    self.assertEqual(apart[0], found)
+                    late += len(found) > 1
+                self.assertEqual(common_divisor(one, other, finite),
+                                 math.gcd(*[difference(one, other, text) for text in texts]))
+        self.assertGreater(late, 10)
 
     def test_rests_need_more_texts_than_fractions(self):
         # All worths are 4, 8, 16 and so on, or 0.

@@ -115,6 +115,12 @@ class States(support.TestCase):
         self.refuses_number(TooMany, 601, rest_states, "a", [A], 6000)
         self.refuses_number(TooMany, 6001, rest_states, "a", [A], 6001)
         self.refuses_number(TooMany, 6001, rest_states, "a", [A], 10000)
+        self.refuses_number(TooMany, 601, rest_states, "a", [AA], 2048)
+        self.refuses_number(TooMany, 6001, rest_states, "a", [AA], 4096)
+        self.refuses_number(TooMany, 601, rest_states, "ab", [AB], 77)
+        self.refuses_number(TooMany, 6001, rest_states, "ab", [AB], 78)
+        self.assertEqual(len(rest_states("ab", [Sum([("ab", 7)])], 77)[0]), 121)
+        self.refuses_number(TooMany, 6001, rest_states, "ab", [Sum([("ab", 13)])], 78)
         # 6,000 lists, but as few as two states; a number that the given one divides makes no list.
         half = Sum([("a", 3000)])
         self.assertEqual(rest_states("a", [half], 6000), ([[1], [0]], [[0], [3000]]))

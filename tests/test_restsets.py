@@ -290,6 +290,24 @@ class Bars(support.TestCase):
         self.assertTrue(is_bar(EVEN, 3, ("", "a" * 1001, "b" * 1000)))
         self.assertFalse(is_bar(EVEN, 3, ("", "a" * 1000, "b" * 1000)))
 
+    def test_any_machine(self):
+        chance = support.chance(5903)
+        for _ in range(150):
+            finite = support.some_finite(chance, chance.choice(["a", "ab"]), 7, 0.05)
+            for prime in [2, 3, 5]:
+                found = bar(finite, prime)
+                self.assertEqual(found is None, told_by(finite, prime) is not None)
+                if found is not None:
+                    self.assertIs(is_bar(finite, prime, found), True)
+        for first, turn in [(1, 1), (1, 4), (5, 2), (2, 5), (3, 4), (6, 1)]:
+            moves = [[state + 1] for state in range(first + turn - 1)] + [[first]]
+            for ends in [[0], [first], [first + turn - 1], [0, first + turn - 1]]:
+                finite = Finite("a", moves, ends)
+                for prime in [2, 3, 5]:
+                    found = bar(finite, prime)
+                    self.assertEqual(found is None, told_by(finite, prime) is not None)
+                    self.assertTrue(found is None or is_bar(finite, prime, found))
+
     def test_any_value(self):
         for wrong in [None, ["", "a", ""], ("", "a"), ("", "a", "", ""), ("", "A", ""), ("", "abc", ""), "aaa",
                       (None, "a", ""), ("", 1, ""), ("", ["a"], "")] + support.any_values():
