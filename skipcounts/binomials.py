@@ -56,9 +56,15 @@ def row_of_values(values):
     while rest:
         found.append(rest[0])
         rest = [after - ahead for ahead, after in zip(rest, rest[1:])]
-    while found and found[-1] == 0:
-        found.pop()
-    return found
+    return trimmed(found)
+
+
+def trimmed(items):
+    """Return the same items without those at the end that are 0."""
+    size = len(items)
+    while size > 0 and items[size - 1] == 0:
+        size = size - 1
+    return items[:size]
 
 
 def _signs_from(row, rises):

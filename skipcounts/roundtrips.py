@@ -51,7 +51,7 @@ def bar_of(letters, moves, told, prime):
             if state not in reached:
                 # The letter never comes back to this state, but to another one again and again.
                 other = _coming_back(moves, place, state)
-                return _text_between(letters, moves, 0, state), letter, _parting_end(letters, moves, told, state, other)
+                return text_between(letters, moves, 0, state), letter, parting_end(letters, moves, told, state, other)
     return _bar_of_turns(letters, moves, told, prime)
 
 
@@ -69,7 +69,7 @@ def _bar_of_turns(letters, moves, told, prime):
                 while turn % (many * prime) == 0:
                     many = many * prime
                 other = _led(letters, moves, state, part * many)
-                return _text_between(letters, moves, 0, state), part, _parting_end(letters, moves, told, state, other)
+                return text_between(letters, moves, 0, state), part, parting_end(letters, moves, told, state, other)
         for place, letter in enumerate(letters):
             after = [moves[state][place] for state in lead]
             if tuple(after) not in seen:
@@ -103,7 +103,7 @@ def _coming_back(moves, place, state):
     return reached
 
 
-def _text_between(letters, moves, state, other):
+def text_between(letters, moves, state, other):
     """Return the first text that leads from a state to another one."""
     texts = {state: ""}
     rest = [state]
@@ -118,7 +118,7 @@ def _text_between(letters, moves, state, other):
     return texts[other]
 
 
-def _parting_end(letters, moves, told, state, other):
+def parting_end(letters, moves, told, state, other):
     """Return the first text behind which something else is told from a state than from another one."""
     texts = {(state, other): ""}
     rest = [(state, other)]

@@ -3,9 +3,10 @@
 An argument is (name, a right value, error, whether a value is right); the error is None where any value is let.
 """
 
-from skipcounts import again, alike, balances, binomials, differences, errors, exchanges, finites, leastmachines
-from skipcounts import learners, legal, machinepowers, machinesums, partings, primes, products, readings, registers
-from skipcounts import rests, restsets, risings, rules, sums, tables, texts
+from skipcounts import again, alike, arches, balances, binomials, differences, errors, exchanges, finites, kepttexts
+from skipcounts import leastforms, leastmachines, learners, legal, machinepowers, machinesums, partings, powers, primes
+from skipcounts import products, readatall, readings, registers, rests, restsets, rings, risings, rules, sums, tables
+from skipcounts import texts
 from tests import support
 
 Sum = sums.Sum
@@ -341,4 +342,87 @@ STAGE_FOUR = [
     (restsets.is_rest_parts, [finite(EVEN), anything("value", [(2, [[1, 0], [0, 1]], [0, 1])])]),
 ]
 
-CALLS = STAGE_ONE + STAGE_TWO + STAGE_THREE + STAGE_FOUR
+Kept = kepttexts.Kept
+KEPT = Kept([("ab", 10 ** 29), (Kept([("ba", 2), ("", 3)]), 5)])
+SHORT = Kept([("ab", 2), (Kept([("ba", 2), ("", 3)]), 1)])
+
+
+def kept(name="kept", value=KEPT):
+    return (name, value, errors.InvalidKept, lambda given: type(given) is Kept)
+
+
+def are_pieces(value):
+    return type(value) is list and all(
+        type(item) is tuple and len(item) == 2 and (support.is_plain_text(item[0]) or type(item[0]) is Kept)
+        and type(item[1]) is int and item[1] >= 0 for item in value)
+
+
+def many_counts(value=1):
+    return whole("many", value, 1, 3)
+
+
+def family(name, value):
+    return listed(name, value, lambda given: given in ([], [("a", (0, 1))]))
+
+
+def grid(name, value):
+    return listed(name, value, lambda given: given in ([], [((1,), 1)]))
+
+
+def point(value):
+    return listed("point", value, lambda given: given in ([0], [1]))
+
+
+def depth(value=2, most=None):
+    return whole("depth", value, 0, most)
+
+
+PAIRED = [("a", (0, 1)), ("b", (2, 0)), ("a", (1, 1))]
+SEEING = Finite("ab", [[1, None], [None, 1]], [1])
+
+
+def seeing(value=SEEING):
+    return ("machine", value, errors.InvalidFinite, lambda given: type(given) is Finite)
+
+
+STAGE_FIVE = [
+    (powers.power_row, [word(), text()]),
+    (powers.member, [many_counts(), family("family", PAIRED), point([1])]),
+    (powers.family_row, [total(), family("family", PAIRED)]),
+    (powers.grid_value, [many_counts(), grid("grid", [((0,), 2), ((2,), -1)]), point([5])]),
+    (powers.grids_part, [many_counts(), grid("one", [((0,), 2)]), grid("other", [((0,), 2), ((2,), -1)])]),
+    (powers.family_grid, [many_counts(), total(), family("family", PAIRED)]),
+    (powers.families_part, [many_counts(), family("one", PAIRED), family("other", PAIRED[::-1]), depth(2, 4)]),
+    (Kept, [listed("pieces", [("ab", 3), (SHORT, 2)], are_pieces)]),
+    (KEPT.pieces, []),
+    (KEPT.length, []),
+    (kepttexts.written, [kept("kept", SHORT)]),
+    (kepttexts.kept_cut, [kept("kept", SHORT), whole("low", 2, 0, 8), whole("high", 5, 2, 8)]),
+    (kepttexts.kept_count, [word(), kept()]),
+    (kepttexts.kept_counts, [letters(), depth(2, 4), kept()]),
+    (kepttexts.kept_part, [kept("one"), kept("other", SHORT), depth(2, 4)]),
+    (kepttexts.reached, [word(), kept(), whole("number", 9, 0)]),
+    (kepttexts.kept_reading, [word(), kept(), whole("number", 9, 0, 10 ** 29)]),
+    (kepttexts.kept_reading_number, [word(), kept(), listed("places", (2, 5), lambda value: value in ((0, 1), (0, 9)))]),
+    (readatall.reads, [depth(), text()]),
+    (readatall.read_alike, [depth(), text("one", "abba"), text("other", "baab")]),
+    (readatall.read_likeness, [text("one", "abba"), text("other", "baab")]),
+    (readatall.parting_word, [text("one", "abba"), text("other", "baab")]),
+    (readatall.steady_from, [depth(), text("head", "aa"), text("part", "ab"), text("tail", "bb")]),
+    (leastforms.ranks, [text()]),
+    (leastforms.can_go, [depth(), text()]),
+    (leastforms.least_form, [depth(), text()]),
+    (leastforms.steps, [depth(), text("one", "abab"), text("other", "babba")]),
+    (leastforms.are_steps, [depth(), anything("value", ["abba", "abbab", "abab"])]),
+    (arches.arches, [letters(), text_over("text", "abbabaa")]),
+    (arches.missing, [letters(), text_over("text", "abbabaa")]),
+    (arches.how_many_forms, [letters(), depth(2)]),
+    (arches.form_numbered, [letters(), depth(2), whole("number", 8, 0, 15)]),
+    (arches.form_number, [letters(), depth(2), text_over("text", "abba")]),
+    (rings.sight, [seeing()]),
+    (rings.seen_forms, [seeing()]),
+    (rings.blind_spot, [seeing(EVEN)]),
+    (rings.is_blind_spot, [seeing(EVEN), anything("value", ("ring", "", "a", "a", ""))]),
+]
+
+CALLS = STAGE_ONE + STAGE_TWO + STAGE_THREE + STAGE_FOUR + STAGE_FIVE

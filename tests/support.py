@@ -9,6 +9,7 @@ from fractions import Fraction
 
 from skipcounts.errors import InvalidText
 from skipcounts.finites import Finite
+from skipcounts.kepttexts import Kept
 from skipcounts.registers import Machine
 from skipcounts.sums import Sum
 from skipcounts.tables import Table
@@ -172,6 +173,9 @@ def any_values():
         Table("a", 0, [1]), Table("ab", 1, [1, 2, -3]), [Table("a", 0, [1])], [Sum([])], ("a", Sum([])),
         Machine("ab", [1], [[[1]], [[2]]], [3]), Machine("a", [], [[]], []), Finite("ab", [[0, None]], [0]),
         Finite("a", [[0]], []), [Machine("a", [1], [[[1]]], [1])], [Finite("a", [[0]], [])], [[0, 1]], [[None]],
+        Kept([]), Kept([("ab", 2)]), [Kept([])], [(Kept([("a", 1)]), 1)], [("a", (0, 1))], [("a", (0, 1, 2))],
+        [("a", [0, 1])], [((1,), 1)], [((1,), 0)], [((1, 1), 1)], ("ring", "", "a", "a", ""),
+        ("pair", "", "a", "b", "ab", ""), ["", "a", "ab"],
         ([], []), ([[]], []), ([[]], [([0], [(1, 1)])]), ("", "a", ""), ([0], [1]), [(2, [[1], [0]], [0, 1])],
     ]
 

@@ -248,8 +248,15 @@ LISTED = {
     "risings": "worths_on rising is_rising",
     "rests": "by_rest rest_states rests_taken how_many_with rest_set first_with",
     "restsets": "expansion told_by marks bar is_bar rest_parts is_rest_parts",
+    "powers": "power_row member family_row grid_value grids_part family_grid families_part",
+    "kepttexts": "Kept written kept_cut kept_count kept_counts kept_part reached kept_reading kept_reading_number",
+    "readatall": "reads read_alike read_likeness parting_word steady_from",
+    "leastforms": "ranks can_go least_form steps are_steps",
+    "arches": "arches missing how_many_forms form_numbered form_number",
+    "rings": "sight seen_forms blind_spot is_blind_spot",
 }
 METHODS_LISTED = [
     ("sums", "Sum", "terms degree worth"), ("tables", "Table", "letters depth numbers number"),
     ("registers", "Machine", "letters start tables out"), ("finites", "Finite", "letters moves ends"),
+    ("kepttexts", "Kept", "pieces length"),
 ]
