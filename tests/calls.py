@@ -3,10 +3,10 @@
 An argument is (name, a right value, error, whether a value is right); the error is None where any value is let.
 """
 
-from skipcounts import again, alike, arches, balances, binomials, differences, errors, exchanges, finites, kepttexts
-from skipcounts import leastforms, leastmachines, learners, legal, machinepowers, machinesums, partings, powers, primes
-from skipcounts import products, readatall, readings, registers, rests, restsets, rings, risings, rules, sums, tables
-from skipcounts import texts
+from skipcounts import again, alike, arches, balances, binomials, book, chains, differences, errors, exchanges, finites
+from skipcounts import kepttexts, leastforms, leastmachines, learners, legal, machinepowers, machinesums, means
+from skipcounts import partings, powers, primes, printer, products, readatall, reader, readings, registers, rests
+from skipcounts import restsets, rings, risings, rules, sayings, sums, tables, texts, toldback
 from tests import support
 
 Sum = sums.Sum
@@ -425,4 +425,87 @@ STAGE_FIVE = [
     (rings.is_blind_spot, [seeing(EVEN), anything("value", ("ring", "", "a", "a", ""))]),
 ]
 
-CALLS = STAGE_ONE + STAGE_TWO + STAGE_THREE + STAGE_FOUR + STAGE_FIVE
+Book = book.Book
+
+
+def changed_book():
+    made = Book("abab", [ONE, OTHER])
+    made.do(("put", 2, "ba"))
+    made.do(("mirror",))
+    made.undo()
+    return made
+
+
+BOOK = changed_book()
+
+
+def condition(name="condition", value=("or", [("reads", "ab"), ("not", ("reads", "ba"))])):
+    return (name, value, errors.InvalidSaying, chains.is_condition)
+
+
+def deep_table(value=tables.table_of("ab", 2, "abba")):
+    return ("table", value, errors.InvalidTable, lambda given: type(given) is Table and given.depth() > 0)
+
+
+THREE = ("and", ("is", "ab", 3), ("not", ("rest", OTHER, 2, 0)))
+
+
+def saying(name="saying", value=THREE):
+    return (name, value, errors.InvalidSaying, lambda given: given == ("is", "a", 1))
+
+
+def deed(fits):
+    return ("deed", ("take", 1, 3), errors.InvalidDeed, fits)
+
+
+def one_letter():
+    return ("letter", "a", errors.InvalidLetters, lambda given: given in ("a", "b"))
+
+
+STAGE_SIX = [
+    (chains.is_condition, [anything("value", ("reads", "ab"))]),
+    (chains.holds, [condition(), text()]),
+    (chains.parting_case, [condition("one"), condition("other", ("reads", "a"))]),
+    (chains.both_read, [listed("one", ["ab", "c"], are_texts), listed("other", ["ba"], are_texts)]),
+    (chains.chain, [condition()]),
+    (chains.is_chain, [anything("value", [["a"], ["aa", "ba"]])]),
+    (chains.chain_lets, [listed("lists", [["a"], ["aa", "ba"]], chains.is_chain), text()]),
+    (chains.levels, [condition()]),
+    (chains.finite_of, [letters(), condition()]),
+    (chains.chain_of_finite, [seeing()]),
+    (toldback.peeled, [deep_table(), one_letter()]),
+    (toldback.how_many_texts, [deep_table()]),
+    (toldback.text_back, [deep_table(), whole("number", 1, 0, 1)]),
+    (toldback.no_text_paper, [deep_table(Table("ab", 2, [1, 1, 1, 0, 2, -1, 0]))]),
+    (toldback.is_no_text_paper, [deep_table(), anything("value", [TABLE])]),
+    (toldback.telling_depth, [letters(), text_over()]),
+    (sayings.is_saying, [letters(), anything("value", THREE)]),
+    (sayings.keeps, [letters(), saying(), text_over()]),
+    (sayings.capped_counts, [letters(), saying(), text_over()]),
+    (sayings.saying_machine, [letters(), saying()]),
+    (sayings.first_kept, [letters(), saying()]),
+    (sayings.parting_saying, [letters(), saying("one"), saying("other", ("least", "ba", 1))]),
+    (sayings.never_paper, [letters(), saying("saying", ("not", ("least", "a", 0)))]),
+    (sayings.is_never_paper, [letters(), saying(), anything("value", ["", "a"])]),
+    (means.mean, [letters(), total(), whole("size", 10 ** 20, 0)]),
+    (means.means_part, [letters(), total("one"), total("other", OTHER)]),
+    (means.arranged_mean, [total(), text()]),
+    (means.unfair, [total()]),
+    (means.below_zero, [("letters", "ab", errors.InvalidLetters, lambda value: value == "ab"), total()]),
+    (printer.line_of, [total()]),
+    (reader.sum_of_line, [("line", "+1[ab] -3[]", errors.InvalidLines, lambda given: given == "+1[a]")]),
+    (reader.right_part, [("line", "+1[ab] -3[] ", errors.InvalidLines, lambda given: type(given) is str)]),
+    (Book, [text(), listed("sums", [ONE, OTHER], is_list_of_size(0, 8))]),
+    (BOOK.text, []),
+    (BOOK.sums, []),
+    (BOOK.worths, []),
+    (BOOK.log, []),
+    (BOOK.copy, []),
+    (BOOK.growth, [deed(lambda given: given == ("mirror",))]),
+    (BOOK.quiet, [whole("low", 1, 0, 6), whole("high", 3, 1, 6)]),
+    (BOOK.shortest_put, [whole("place", 2, 0, 6), whole("size", 4, 1, 4)]),
+    (book.is_deed, [("book", BOOK, errors.InvalidDeed, lambda given: type(given) is Book),
+                    anything("value", ("take", 1, 3))]),
+]
+
+CALLS = STAGE_ONE + STAGE_TWO + STAGE_THREE + STAGE_FOUR + STAGE_FIVE + STAGE_SIX

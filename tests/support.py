@@ -7,6 +7,7 @@ import time
 import unittest
 from fractions import Fraction
 
+from skipcounts.book import Book
 from skipcounts.errors import InvalidText
 from skipcounts.finites import Finite
 from skipcounts.kepttexts import Kept
@@ -176,6 +177,10 @@ def any_values():
         Kept([]), Kept([("ab", 2)]), [Kept([])], [(Kept([("a", 1)]), 1)], [("a", (0, 1))], [("a", (0, 1, 2))],
         [("a", [0, 1])], [((1,), 1)], [((1,), 0)], [((1, 1), 1)], ("ring", "", "a", "a", ""),
         ("pair", "", "a", "b", "ab", ""), ["", "a", "ab"],
+        ("reads", "ab"), ("not", ("reads", "A")), ("and", []), ("or", [("reads", "a"), None]), [["a"]], [["a"], ["aa"]],
+        [["a", "ab"]], ("is", "a", 1), ("is", "a", 21), ("least", "", 1), ("rest", Sum([("a", 1)]), 2, 2),
+        ("and", ("is", "a", 1), None), "+1[a", "+01[a]", "0 ", "++", ("put", 0, "A"), ("mirror",), ("drop", 9),
+        ("mirror", 1), Book("ab", [Sum([("a", 1)])]), [Book("", [])],
         ([], []), ([[]], []), ([[]], [([0], [(1, 1)])]), ("", "a", ""), ([0], [1]), [(2, [[1], [0]], [0, 1])],
     ]
 

@@ -16,6 +16,8 @@ def plain(value):
         return ("table", value.letters(), value.depth(), value.numbers())
     if hasattr(value, "out"):
         return ("machine", value.letters(), value.start(), value.tables(), value.out())
+    if hasattr(value, "log"):
+        return ("book", value.text(), plain(value.sums()), plain(value.log()))
     if hasattr(value, "pieces"):
         return ("kept", value.length(), [plain(item) for item in value.pieces()])
     if hasattr(value, "moves"):

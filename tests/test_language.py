@@ -254,9 +254,17 @@ LISTED = {
     "leastforms": "ranks can_go least_form steps are_steps",
     "arches": "arches missing how_many_forms form_numbered form_number",
     "rings": "sight seen_forms blind_spot is_blind_spot",
+    "chains": "is_condition holds parting_case both_read chain is_chain chain_lets levels finite_of chain_of_finite",
+    "toldback": "peeled how_many_texts text_back no_text_paper is_no_text_paper telling_depth",
+    "sayings": "is_saying keeps capped_counts saying_machine first_kept parting_saying never_paper is_never_paper",
+    "means": "mean means_part arranged_mean unfair below_zero",
+    "printer": "line_of",
+    "reader": "sum_of_line right_part",
+    "book": "Book is_deed",
 }
 METHODS_LISTED = [
     ("sums", "Sum", "terms degree worth"), ("tables", "Table", "letters depth numbers number"),
     ("registers", "Machine", "letters start tables out"), ("finites", "Finite", "letters moves ends"),
     ("kepttexts", "Kept", "pieces length"),
+    ("book", "Book", "text sums worths do undo redo log copy growth quiet shortest_put"),
 ]
