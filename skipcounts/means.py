@@ -124,7 +124,7 @@ def _first_below(letters, ahead, behind, size):
 
 
 def _far_enough(numbers):
-    """Return a number of letters so that, if any worth is below 0, one at a text of two runs with no more letters is."""
+    """Return so many letters that, if any worth is below 0, one at a text of two runs with no more of them is."""
     # Let m be the greatest of the numbers. Where squares make some worth less than 0, or keep all worths up, less than
     # 20 * m * m + 20 * m + 20 letters tell; if one letter has no square, its number of letters may be up to m * m * m.
     # Where squares add nothing along a line of texts, the worths go along it by a fixed number, and if this is not
