@@ -5,16 +5,21 @@ from skipcounts.readatall import is_read
 from skipcounts.texts import in_order
 
 MOST_IN_LIST = 200
+# Longer texts have too many parts that could be kept.
+MOST_KEPT = 10
 
 
 class Cover:
     """Some texts, and whether one of them is read in a text; what was found for short texts is kept for longer ones."""
 
     def __init__(self, texts):
+        self._texts = list(texts)
         self._known = {text: True for text in texts}
 
     def covers(self, text):
         """Return whether one of the texts is read in a text."""
+        if len(text) > MOST_KEPT:
+            return any([is_read(own, text) for own in self._texts])
         if text not in self._known:
             shorter = [text[:place] + text[place + 1:] for place in range(len(text))]
             self._known[text] = any([self.covers(own) for own in shorter])
@@ -22,6 +27,7 @@ class Cover:
 
     def put(self, text):
         """Put in a text, behind which only texts are asked for that have at least as many letters."""
+        self._texts.append(text)
         self._known[text] = True
 
 

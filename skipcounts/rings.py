@@ -92,14 +92,15 @@ def _states_of_forms(letters, moves, forms, depth):
 
 
 def _reached_from(moves, state):
-    """Return the states to which texts lead from a state, this one first."""
-    found = [state]
-    at = 0
-    while at < len(found):
-        for move in moves[found[at]]:
+    """Return the states to which texts lead from a state, this one first, as the keys of a dict."""
+    found = {state: True}
+    rest = [state]
+    while rest:
+        own = rest.pop()
+        for move in moves[own]:
             if move not in found:
-                found.append(move)
-        at = at + 1
+                found[move] = True
+                rest.append(move)
     return found
 
 

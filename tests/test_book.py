@@ -182,6 +182,14 @@ class Deeds(support.TestCase):
         self.assertEqual((book.text(), book.sums(), book.log()), ("abc", [A, AB], []))
         self.assertFalse(is_deed(Book("abc", []), ("drop", 0)))
 
+    def test_by_name(self):
+        book = Book(sums=[AB], text="ab")
+        book.do(deed=("put", 1, "ab"))
+        self.assertEqual((book.text(), book.growth(deed=("mirror",))), ("aabb", [-4]))
+        self.assertEqual(book.quiet(high=1, low=0), ["a"])
+        self.assertEqual(book.shortest_put(size=1, place=4), "a")
+        self.assertIs(is_deed(value=("mirror",), book=book), True)
+
     def test_eight_sums_and_nine(self):
         book = Book("a", [A] * 8)
         self.assertIs(is_deed(book, ("add", A)), False)

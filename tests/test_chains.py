@@ -229,8 +229,28 @@ class Chains(support.TestCase):
         self.assertEqual(len(chain(("or", [("and", [("reads", word) for word in ["abcde", "fg", "h"]]),
                                            ("reads", "z")]))[0]), 169)
 
+    def test_200_texts_and_201(self):
+        words = ["abc", "de", "f", "g", "h"]
+
+        def all_of(rows):
+            return ("or", [("and", [("reads", words[at]) for at in row]) for row in rows])
+        let = all_of([[0, 1, 2], [0, 1, 3], [0, 2, 3], [0, 1, 4]])
+        refused = all_of([[1, 2], [0, 1, 3], [0, 2, 3], [0, 1, 4], [0, 2, 4], [0, 3, 4], [1, 3, 4], [2, 3, 4]])
+        self.assertEqual([len(texts) for texts in self.in_seconds(chain, let)], [200])
+        self.assertEqual([len(texts) for texts in chain(("not", let))], [1, 200])
+        self.assertEqual(len(levels(("not", let))), 2)
+        for condition in [refused, ("not", refused)]:
+            for call in [chain, levels]:
+                self.in_seconds(self.refuses_number, TooMany, 201, call, condition)
+        self.assertIsNone(parting_case(refused, ("not", ("not", refused))))
+
+    def test_long_words(self):
+        letters = support.ALL_LETTERS
+        self.assertEqual(self.in_seconds(chain, ("not", ("reads", letters * 2))), [[""], [letters * 2]])
+        self.assertIs(self.in_seconds(chain_lets, [[letters], [letters + "a"]], letters * 3), False)
+
     def test_too_many_of_machines(self):
-        # Machines of texts with four letters let 81 texts at first, those of five 243.
+        # There are 81 texts of four letters and 243 of five.
         self.assertEqual([len(texts) for texts in chain_of_finite(at_least_letters(4))], [81])
         self.refuses_number(TooMany, 201, chain_of_finite, at_least_letters(5))
     def test_what_is_a_chain(self):

@@ -108,6 +108,8 @@ class Members(support.TestCase):
         self.assertEqual(member(3, [], [0, FAR, 1]), "")
         self.assertEqual(member(2, [("", (FAR, FAR, 0)), ("ab", (0, 0, 2)), ("c", (1, 0, 0))], [FAR, 1]), "ababc")
         self.assertEqual(member(1, [("ab", (0, FAR)), ("c", (0, 0))], [0]), "")
+        self.assertEqual(member(3, [("ab", (0, 0, 0, 0)), ("c", (0, 0, 1, 0))], [FAR, 2, FAR]), "cc")
+        self.assertEqual(family_grid(2, Sum([("a", 1), ("", 3)]), [("a", (0, 0, 0))] * 8), [((0, 0), 3)])
         self.assertEqual(member(1, [("a", (299, 1))], [1]), "a" * 300)
         self.refuses_number(TooLong, 301, member, 1, [("a", (299, 1))], [2])
         self.refuses_number(TooLong, 12 * FAR * FAR + 4, member, 1, [("abcabcabcabc", (0, FAR)), ("ab", (2, 0))], [FAR])
