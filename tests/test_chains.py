@@ -200,6 +200,20 @@ class Chains(support.TestCase):
             if at:
                 self.assertTrue(is_in(texts[at - 1], text))
 
+    def test_levels(self):
+        chance = support.chance(8008)
+        sizes = []
+        for number in range(150):
+            words = some_words(chance, "ab" if number % 3 else "abc", 5, 2)
+            condition = odd_many(words) if chance.random() < 0.7 else some_condition(chance, words)
+            try:
+                found = chain(condition)
+            except TooMany:
+                continue
+            self.check_levels(condition, found)
+            sizes.append(len(found))
+        self.assertGreater(sum(size > 3 for size in sizes), 10)
+
     def test_edges(self):
         self.assertEqual([chain(ALL), chain(NONE), levels(ALL), levels(NONE)], [[[""]], [], [""], []])
         self.assertEqual(chain(("reads", "")), [[""]])
@@ -351,6 +365,19 @@ class Machines(support.TestCase):
                     self.assertEqual(lists, plain_chain(texts, lambda text: support.plain_lets(finite, text)))
             found.append(0 if lists is None else len(lists))
         self.assertGreater(len(set(found)), 3)
+
+    def test_texts_read_in_longer_ones(self):
+        """Machines of a few texts, of which some are read in others and still go on in another way."""
+        chance = support.chance(8007)
+        words = support.all_words("abc", 4)
+        for texts in [["a", "ba", "bac"], ["ab", "aab", "aabc"], ["b", "ab", "abb", "acbc"]] + [
+                chance.sample(words, chance.randint(1, 4)) for _ in range(40)]:
+            beginnings = sorted({text[:size] for text in texts for size in range(len(text) + 1)}, key=support.text_key)
+            moves = [[beginnings.index(own + letter) if own + letter in beginnings else None for letter in "abc"]
+                     for own in beginnings]
+            finite = Finite("abc", moves, sorted(beginnings.index(text) for text in set(texts)))
+            found = self.in_seconds(chain_of_finite, finite)
+            self.assertEqual(found, plain_chain(support.all_words("abc", 5), lambda text: text in texts))
 
     def test_more_forms_than_are_let_are_no_bar(self):
         self.assertEqual(chain_of_finite(at_least_letters(3)), [support.all_words("abc", 3)[13:]])

@@ -250,6 +250,9 @@ class Readings(support.TestCase):
             self.refuses(InvalidList, value, kept_reading_number, "ab", kept, value)
         for places in support.all_readings("ab", text):
             self.assertEqual(kept_reading_number("ab", kept, places), reading_number("ab", text, places))
+        for value in [(0, 0), (2, 2), (2, 0), (0, 2, 2), (0, 5)]:
+            self.refuses(InvalidList, value, kept_reading_number, "aa", kept, value)
+        self.assertEqual(kept_reading_number("aa", kept, (0, 2)), 0)
         self.assertEqual(kept_reading_number("", kept, ()), 0)
         wrong = (0,)
         self.refuses(InvalidList, wrong, kept_reading_number, "", kept, wrong)
