@@ -24,7 +24,7 @@ class Walk:
 
     def behind(self, row, part, times):
         """Return the counts behind so many copies of a part."""
-        return _row_at(self._rows(row, part), times)
+        return _row_at(self._rows_behind(row, part), times)
 
     def behind_letters(self, row, part, size):
         """Return the counts behind the first letters, so many, of a part."""
@@ -50,7 +50,7 @@ class Walk:
         size = 0
         found = row
         for own, times in part.pieces():
-            rows = self._rows(found, own)
+            rows = self._rows_behind(found, own)
             after = _row_at(rows, times)
             if after[at] >= number:
                 copies = _copies_below([line[at] for line in rows], times, number)
@@ -68,7 +68,7 @@ class Walk:
                 return place + 1
         return None
 
-    def _rows(self, row, part):
+    def _rows_behind(self, row, part):
         """Return the rows that make the counts behind any number of copies, each taken as often as its binomial."""
         rises = self._rise(part)
         rows = [row]
