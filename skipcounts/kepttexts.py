@@ -173,8 +173,8 @@ def _written(part):
     """Return the text that a part writes."""
     if isinstance(part, str):
         return part
-    # A part without letters may be taken more often than a text can be.
-    return "".join([_written(own) * times for own, times in part.pieces() if size_of(own) > 0])
+    # A part that is taken 0 times may be too long for a text, and one without letters may be taken too often for one.
+    return "".join([_written(own) * times for own, times in part.pieces() if size_of(own) * times > 0])
 
 
 def _cut(part, low, high):

@@ -36,6 +36,20 @@ def some_short(chance, letters, most=40):
             return kept
 
 
+def many_tuples(kept):
+    return len(kept.pieces()) + sum(many_tuples(part) for part, _ in kept.pieces() if isinstance(part, Kept))
+
+
+def with_far_parts(chance, kept):
+    """A kept text that writes the same, in which parts that write very many letters are taken 0 times."""
+    pieces = []
+    for part, times in kept.pieces():
+        if chance.random() < 0.5:
+            pieces.append((chance.choice(FAR_PARTS), 0))
+        pieces.append((part if isinstance(part, str) else with_far_parts(chance, part), times))
+    return Kept(pieces + [(chance.choice(FAR_PARTS), 0)])
+
+
 def nested(depth, text="ab", times=2):
     kept = Kept([(text, times)])
     for _ in range(depth - 1):
@@ -46,6 +60,10 @@ def nested(depth, text="ab", times=2):
 def wide(many):
     """A kept text whose number of tuples is just so many."""
     return Kept([("a", 1)] * many)
+
+
+# What they write is longer than any string can be, and longer than memory has room for.
+FAR_PARTS = [Kept([("ab", FAR)]), Kept([("c", 10 ** 15)])]
 
 
 class Examples(support.TestCase):
@@ -84,6 +102,44 @@ class Writing(support.TestCase):
                     self.assertEqual((plain_written(cut), cut.length()), (text[low:high], high - low))
                     self.assertEqual(written(cut), text[low:high])
                     self.assertEqual(kept_count("ab", cut), count("ab", text[low:high]))
+
+    def test_far_parts_taken_no_times(self):
+        for far in FAR_PARTS + [Kept([(FAR_PARTS[0], FAR), ("c", 1)])]:
+            for kept, text in [(Kept([(far, 0)]), ""), (Kept([(far, 0), ("ba", 2)]), "baba"),
+                               (Kept([("ba", 2), (far, 0)]), "baba"), (Kept([("b", 1), (far, 0), ("a", 2)]), "baa"),
+                               (Kept([(Kept([(far, 1)]), 0), ("a", 1)]), "a"), (Kept([(Kept([(far, 0)]), FAR)]), ""),
+                               (Kept([(Kept([("c", 2), (far, 0)]), 3), ("b", 1)]), "ccccccb"),
+                               (Kept([(far, 0), ("a", 300)]), "a" * 300)]:
+                self.assertEqual((kept.length(), written(kept)), (len(text), text))
+            self.refuses_number(TooLong, 301, written, Kept([(far, 0), ("a", 301)]))
+            self.refuses_number(TooLong, far.length(), written, Kept([(far, 1), (far, 0)]))
+
+    def test_far_parts_taken_no_times_anywhere(self):
+        chance = support.chance(6603)
+        for _ in range(60):
+            short = some_short(chance, "ab", 20)
+            while many_tuples(short) > 10:
+                short = some_short(chance, "ab", 20)
+            kept, text = with_far_parts(chance, short), plain_written(short)
+            self.assertEqual((kept.length(), written(kept)), (len(text), text))
+            low = chance.randint(0, len(text))
+            high = chance.randint(low, len(text))
+            self.assertEqual(written(kept_cut(kept, low, high)), text[low:high])
+            self.assertEqual(kept_counts("abc", 3, kept), counts("abc", 3, text))
+            self.assertIsNone(kept_part(kept, short, 4))
+            many = count("ab", text)
+            self.assertEqual(reached("ab", kept, many), reached("ab", short, many))
+            for number in range(many):
+                self.assertEqual(kept_reading("ab", kept, number), reading("ab", text, number))
+                self.assertEqual(kept_reading_number("ab", kept, reading("ab", text, number)), number)
+
+    def test_cuts_at_ends_of_far_parts(self):
+        # Between two copies that are cut stand 0 whole ones.
+        for far in FAR_PARTS:
+            twice, size = Kept([(far, 2)]), far.length()
+            end, start = written(kept_cut(far, size - 2, size)), written(kept_cut(far, 0, 2))
+            self.assertEqual(written(kept_cut(twice, size - 2, size + 2)), end + start)
+            self.assertEqual(written(kept_cut(Kept([(twice, 3)]), 4 * size - 2, 4 * size + 2)), end + start)
 
     def test_pieces_are_those_given(self):
         inner = Kept([("a", 2)])
